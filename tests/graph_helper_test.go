@@ -49,7 +49,7 @@ func alike(a impl.Graph, b impl.Graph) bool {
 
 func isZeroHeap(h impl.Heap) bool { return sameHeap(h, impl.Heap{}) }
 
-// wantShape fails unless h has this Shape and the reached objects take so many words.
+// wantShape fails unless h has this Shape, the reached objects take so many words, and the Shape is GraphOk where the old space has room for these (-1 words: h is wrong, and so is the zero Graph).
 func wantShape(t *testing.T, name string, h impl.Heap, want impl.Graph, words int64) {
 	t.Helper()
 	if got := impl.Shape(h); !alike(got, want) {
@@ -57,6 +57,9 @@ func wantShape(t *testing.T, name string, h impl.Heap, want impl.Graph, words in
 	}
 	if got := impl.Reached(h); got != words {
 		t.Errorf("%s: %d words are reached, not %d", name, got, words)
+	}
+	if ok := impl.GraphOk(want); ok != between(0, words, 2000) {
+		t.Errorf("%s: GraphOk of the Shape is %v", name, ok)
 	}
 }
 

@@ -177,8 +177,8 @@ func TestEveryNumberOfAGraphHurt(t *testing.T) {
 	}
 }
 
-// TestEverySmallGraph goes over all graphs of up to two nodes with few fields, and up to two roots, of a few words.
-func TestEverySmallGraph(t *testing.T) {
+// TestSmallGraphs has one or two nodes: all lists of up to two of five words as roots and as fields of node 0, and some as fields of node 1.
+func TestSmallGraphs(t *testing.T) {
 	words := []int64{-1, 0, 1, 3, 5}
 	lists := [][]int64{nil}
 	for _, a := range words {
