@@ -148,14 +148,14 @@ func wantNotMoved(t *testing.T, name string, h impl.Heap, survivors int64) {
 	wantScavenge(t, name, h, scavenged{survivors: survivors, promoted: -1})
 }
 
-// wantSameGraph fails unless the scavenged heap is right and has the graph that it had.
+// wantSameGraph fails unless the heap is right then and has the graph that it had.
 func wantSameGraph(t *testing.T, name string, h impl.Heap, then impl.Heap) {
 	t.Helper()
 	if !impl.HeapOk(then) {
-		t.Fatalf("%s: scavenged, it is not right: %s", name, heapText(then))
+		t.Fatalf("%s: then it is not right: %s", name, heapText(then))
 	}
 	if a, b := impl.Shape(h), impl.Shape(then); !impl.SameGraph(a, b) || !alike(a, b) {
-		t.Fatalf("%s: scavenged, its graph is %v, not %v", name, b, a)
+		t.Fatalf("%s: then its graph is %v, not %v", name, b, a)
 	}
 }
 
